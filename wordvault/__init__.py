@@ -1,0 +1,1 @@
+"""Wordvault: a searchable archive of texts, told by rules."""

@@ -1,0 +1,302 @@
+"""Texts made shorter and shorter, alike for all, on their rules.
+
+In turn, runs of one letter are made one letter, and pairs of two letters by a
+splitting of the letters. As each stage is the same for all texts, whatever
+their rules, they part where the first unlike letters of a stage do, as far down
+as these are alike.
+
+A node has refs, nodes that stand in it, and gaps, tuples of letters ahead of,
+between, and behind these. A core is a node that stands for X (w X) .. (w X): its base X,
+its gap w and its times. Ahead of each stage a node gives away what may become one with
+letters outside of it; these letters stand in the gaps around it then.
+"""
+
+
+class Letters:
+    """All letters: their sizes, the stage that made them, and their parts, pairs (letter, count)."""
+
+    def __init__(self, signs):
+        self.sizes = [1] * signs
+        self.stages = [0] * signs
+        self.parts = [()] * signs
+        self.stage = 0
+        self.numbers = {}
+
+    def new_stage(self):
+        """From now on letters are made by the next stage."""
+        self.stage += 1
+        self.numbers = {}
+
+    def made_of(self, parts):
+        """The letter that this stage makes of these parts."""
+        number = self.numbers.get(parts)
+        if number is None:
+            number = len(self.sizes)
+            self.numbers[parts] = number
+            self.sizes.append(sum([self.sizes[letter] * count for letter, count in parts]))
+            self.stages.append(self.stage)
+            self.parts.append(parts)
+        return number
+
+
+class RunCutter:
+    """Makes runs one letter. In its gaps a pair (letter, count) is a run that was given away."""
+
+    def __init__(self, letters):
+        self.letters = letters
+        self.seen = {}
+        self.seen_first = {}
+        self.seen_last = {}
+
+    def runs_of(self, gap):
+        """The longest runs, pairs (letter, count)."""
+        runs = []
+        for item in gap:
+            letter, count = (item, 1) if isinstance(item, int) else item
+            if runs and runs[-1][0] == letter:
+                runs[-1] = (letter, runs[-1][1] + count)
+            else:
+                runs.append((letter, count))
+        return runs
+
+    def letters_of(self, runs):
+        """A tuple with one letter for each run."""
+        return tuple([run[0] if run[1] == 1 else self.letters.made_of((run,)) for run in runs])
+
+    def amid(self, gap):
+        """The new letters of a gap."""
+        told = self.seen.get(gap)
+        if told is None:
+            told = self.seen[gap] = self.letters_of(self.runs_of(gap))
+        return told
+
+    def first(self, gap):
+        """What is given away at the beginning of a gap, and the new letters of the rest."""
+        told = self.seen_first.get(gap)
+        if told is None:
+            runs = self.runs_of(gap)
+            told = self.seen_first[gap] = ((runs[0],), self.letters_of(runs[1:]))
+        return told
+
+    def last(self, gap):
+        """The new letters of a gap, and what is given away at its end."""
+        told = self.seen_last.get(gap)
+        if told is None:
+            runs = self.runs_of(gap)
+            told = self.seen_last[gap] = (self.letters_of(runs[:-1]), (runs[-1],))
+        return told
+
+    def whole(self, gap):
+        """What is given away at the beginning, the new letters, and what is given away at the end."""
+        runs = self.runs_of(gap)
+        if len(runs) == 1:
+            return (runs[0],), (), ()
+        return (runs[0],), self.letters_of(runs[1:-1]), (runs[-1],)
+
+    def core(self, ahead, gap, behind, times):
+        """A core whose base was all given away: what it gives away, the new base, the new gap, the new times.
+
+        It is ahead behind (gap ahead behind) .. : if the base was one run, runs go over its copies.
+        """
+        if behind:
+            return ahead, self.amid(behind + gap + ahead), (), times - 1, behind
+        letter, count = ahead[0]
+        runs = self.runs_of(gap + ahead)
+        if len(runs) == 1:
+            return ((letter, count + times * runs[0][1]),), (), (), 0, ()
+        early = runs[0][1] if runs[0][0] == letter else 0
+        late = runs[-1][1]
+        base = self.letters_of(runs[1:-1] if early else runs[:-1])
+        between = self.letters_of([(letter, early + late)])
+        return ((letter, count + early),), base, between, times - 1, ((letter, late),)
+
+
+class PairCutter:
+    """Makes pairs of a letter of the one side and a letter of the other side behind it one letter."""
+
+    def __init__(self, letters, left, right):
+        self.letters = letters
+        self.left = left
+        self.right = right
+        self.seen = {}
+
+    def amid(self, gap):
+        """The new letters of a gap."""
+        told = self.seen.get(gap)
+        if told is None:
+            told = self.seen[gap] = self.paired(gap)
+        return told
+
+    def paired(self, gap):
+        """The letters with each pair as one."""
+        told = []
+        ahead = None
+        for letter in gap:
+            if ahead in self.left and letter in self.right:
+                told[-1] = self.letters.made_of(((ahead, 1), (letter, 1)))
+                ahead = None
+            else:
+                told.append(letter)
+                ahead = letter
+        return tuple(told)
+
+    def first(self, gap):
+        """What is given away at the beginning of a gap, and the new letters of the rest."""
+        if gap and gap[0] in self.right:
+            return gap[:1], self.amid(gap[1:])
+        return (), self.amid(gap)
+
+    def last(self, gap):
+        """The new letters of a gap, and what is given away at its end."""
+        if gap and gap[-1] in self.left:
+            return self.amid(gap[:-1]), gap[-1:]
+        return self.amid(gap), ()
+
+    def whole(self, gap):
+        """What is given away at the beginning, the new letters, and what is given away at the end."""
+        ahead = gap[:1] if gap[0] in self.right else ()
+        rest = gap[len(ahead):]
+        told, behind = self.last(rest)
+        return ahead, told, behind
+
+    def core(self, ahead, gap, behind, times):
+        """A core whose base was all given away: what it gives away, the new base, the new gap, the new times."""
+        return ahead, self.amid(behind + gap + ahead), (), times - 1, behind
+
+
+class Nodes:
+    """The nodes of all texts, each behind those in it; roots are nodes that give nothing away."""
+
+    def __init__(self):
+        self.order = []
+        self.roots = []
+        self.refs = []
+        self.gaps = []
+        self.bases = []
+        self.times = []
+        # What the last stage had given away, and from which nodes all.
+        self.ahead = {}
+        self.behind = {}
+        self.gone = {}
+
+    def added(self, refs, gaps):
+        """A new node; whoever asks for it says where it stands in the order."""
+        self.refs.append(refs)
+        self.gaps.append(gaps)
+        self.bases.append(None)
+        self.times.append(0)
+        return len(self.refs) - 1
+
+    def added_core(self, base, times):
+        """A new core without a gap."""
+        node = self.added([], [()])
+        self.bases[node] = base
+        self.times[node] = times
+        return node
+
+    def squeeze(self, cutter):
+        """One stage."""
+        self.ahead, self.behind, self.gone = {}, {}, {}
+        order = []
+        for node in self.order:
+            if self.bases[node] is None:
+                self.squeeze_row(cutter, node)
+            else:
+                base = self.squeeze_core(cutter, node)
+                if base is not None:
+                    order.append(base)
+            if not self.gone[node]:
+                order.append(node)
+        self.order = order
+        for root in self.roots:
+            gaps = self.gathered(root)
+            self.gaps[root] = [cutter.amid(gap) for gap in gaps]
+
+    def gathered(self, node):
+        """The gaps of a node with what the nodes in it gave away; those that gave all away fall out."""
+        gaps = self.gaps[node]
+        refs, told = [], []
+        gap = gaps[0]
+        at = 0
+        for ref in self.refs[node]:
+            at += 1
+            if self.gone[ref]:
+                gap = gap + self.ahead[ref] + self.behind[ref] + gaps[at]
+            else:
+                told.append(gap + self.ahead[ref])
+                refs.append(ref)
+                gap = self.behind[ref] + gaps[at]
+        told.append(gap)
+        self.refs[node] = refs
+        return told
+
+    def squeeze_row(self, cutter, node):
+        """One stage of a node that is no core."""
+        gaps = self.gathered(node)
+        if len(gaps) == 1:
+            self.ahead[node], letters, self.behind[node] = cutter.whole(gaps[0])
+            self.gaps[node] = [letters]
+            self.gone[node] = not letters
+            return
+        self.gone[node] = False
+        self.ahead[node], first = cutter.first(gaps[0])
+        last, self.behind[node] = cutter.last(gaps[-1])
+        told = [first]
+        for gap in gaps[1:-1]:
+            told.append(cutter.amid(gap))
+        told.append(last)
+        self.gaps[node] = told
+
+    def squeeze_core(self, cutter, node):
+        """One stage of a core; if it gets a new base, this is returned, otherwise None."""
+        base = self.bases[node]
+        gap = self.gaps[node][0]
+        ahead, behind = self.ahead[base], self.behind[base]
+        self.gone[node] = False
+        if not self.gone[base]:
+            self.ahead[node], self.behind[node] = ahead, behind
+            self.gaps[node] = [cutter.amid(behind + gap + ahead)]
+            return None
+        ahead, letters, between, times, behind = cutter.core(ahead, gap, behind, self.times[node])
+        self.ahead[node], self.behind[node] = ahead, behind
+        self.times[node] = times
+        if times == 0:
+            self.bases[node] = None
+            self.gaps[node] = [letters]
+            self.gone[node] = not letters
+            return None
+        self.bases[node] = self.added([], [letters])
+        self.gaps[node] = [between]
+        return self.bases[node]
+
+    def pairs_told(self):
+        """How often each pair of letters stands in the gaps, as a dict."""
+        times = {}
+        for node in self.order + self.roots:
+            for gap in self.gaps[node]:
+                if len(gap) > 1:
+                    times[gap] = times.get(gap, 0) + 1
+        pairs = {}
+        for gap, many in times.items():
+            for at in range(1, len(gap)):
+                pair = (gap[at - 1], gap[at])
+                pairs[pair] = pairs.get(pair, 0) + many
+        return pairs
+
+
+def sides_of(pairs):
+    """A splitting of the letters in two sides such that many of the pairs go from the one to the other."""
+    weights = {}
+    for (one, other), many in pairs.items():
+        of_one, of_other = weights.setdefault(one, {}), weights.setdefault(other, {})
+        of_one[other] = of_one.get(other, 0) + many
+        of_other[one] = of_other.get(one, 0) + many
+    left, right = {}, {}
+    for letter, beside in weights.items():
+        lefts = sum([many for other, many in beside.items() if other in left])
+        rights = sum([many for other, many in beside.items() if other in right])
+        side = right if lefts > rights else left
+        side[letter] = True
+    forth = sum([many for (one, other), many in pairs.items() if one in left and other in right])
+    back = sum([many for (one, other), many in pairs.items() if one in right and other in left])
+    return (left, right) if forth >= back else (right, left)
