@@ -110,7 +110,7 @@ class LanguageTest(unittest.TestCase):
                     told = node.id
                 elif isinstance(node, ast.FunctionDef) and node in tree.body:
                     told = node.name
-                if told is not None:
+                if told is not None and told != "_":
                     where = f"{name} {node.lineno} {told}"
                     self.assertNotIn(told, dir(builtins), where)
                     self.assertNotIn(told, BARRED, where)
