@@ -3,6 +3,7 @@
 from wordvault.automata import blocks_of, least_unlike, row_to, walked
 from wordvault.checks import first_wrong_sign
 from wordvault.errors import BadSign
+from wordvault.machines import Steps
 
 
 def seen_at(machine, left, right):
@@ -12,9 +13,11 @@ def seen_at(machine, left, right):
         if wrong is not None:
             raise BadSign(wrong)
     blocks = blocks_of(machine.table, machine.kinds)
+    steps = Steps(machine)
+    ones, others = steps.states_behind(left), steps.states_behind(right)
     order, came = walked(machine.table, machine.start)
     for state in order:
-        one, other = machine.state_behind(state, left), machine.state_behind(state, right)
-        if blocks[one] != blocks[other]:
-            return row_to(came, state), least_unlike(machine.table, machine.kinds, one, other)
+        if blocks[ones[state]] != blocks[others[state]]:
+            back = least_unlike(machine.table, machine.kinds, ones[state], others[state])
+            return row_to(came, state), back
     return None

@@ -39,11 +39,11 @@ def excess(one, other, rule):
                                 "triples", MOST_TRIPLES)
     gains = [(1 if one.kinds[of_one] else 0) - (1 if other.kinds[of_other] else 0) for _, of_one, of_other in order]
     climb = Climb(table, gains, [rule.kinds[of_rule] for of_rule, _, _ in order])
-    higher = climb.climb()
-    if climb.heights[0] is None:
+    state = climb.climb()
+    if not any(climb.ends):
         return None
-    if higher is not None:
-        front, ring, back = climb.endless(higher)
+    if state is not None:
+        front, ring, back = climb.endless(state)
         return Endless(one, other, rule, front, ring, back)
     heights = sorted([(triple, climb.heights[state]) for state, triple in enumerate(order)], key=lambda pair: pair[0])
     return Most(one, other, rule, climb.heights[0], climb.best_row(0), heights)
@@ -53,8 +53,7 @@ class Climb:
     """The greatest gain from each state on, up to an end; each step gains what its target tells.
 
     ways tell of a state the pair (sign, target) by which its height was found last. As a
-    height only grows by a way that is better, ways never lead round, unless a
-    ring gains.
+    height only grows by a way that is better, ways lead round just if a ring gains.
     """
 
     def __init__(self, table, gains, ends):
@@ -66,9 +65,10 @@ class Climb:
         self.ways = [None for _ in table]
 
     def climb(self):
-        """Finds all heights: None; or a state whose height grows without end."""
-        for _ in range(len(self.table) + 1):
-            higher = None
+        """Finds all heights: None; or a state of a ring that gains."""
+        changed = True
+        while changed:
+            changed = False
             for state, steps in enumerate(self.steps):
                 for target, sign in steps:
                     height = self.heights[target]
@@ -78,10 +78,26 @@ class Climb:
                     if self.heights[state] is None or height > self.heights[state]:
                         self.heights[state] = height
                         self.ways[state] = (sign, target)
-                        higher = state
-            if higher is None:
-                return None
-        return higher
+                        changed = True
+            ring = self.state_in_ring()
+            if ring is not None:
+                return ring
+        return None
+
+    def state_in_ring(self):
+        """A state from which the ways lead back to it, or None."""
+        walks = {}
+        for start in range(len(self.ways)):
+            state = start
+            while state not in walks:
+                walks[state] = start
+                if self.ways[state] is None:
+                    break
+                state = self.ways[state][1]
+            else:
+                if walks[state] == start:
+                    return state
+        return None
 
     def best_row(self, state):
         """The signs of the ways from a state on to an end."""
@@ -92,9 +108,7 @@ class Climb:
         return tuple(signs)
 
     def endless(self, state):
-        """Rows front, ring and back, the ring gaining, if the height of this state grows without end."""
-        for _ in range(len(self.table)):
-            state = self.ways[state][1]
+        """Rows front, ring and back; the ring is that of the ways from this state on."""
         ring = []
         at = state
         while not ring or at != state:

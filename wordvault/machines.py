@@ -209,6 +209,24 @@ def rows_at_once(tables, states):
     return told
 
 
+class Steps:
+    """Reads rows from all states of a machine at once; where a sign leads is found out once."""
+
+    def __init__(self, machine):
+        self.machine = machine
+        self.columns = {}
+
+    def states_behind(self, row):
+        """For each state the state behind a row of signs."""
+        states = list(range(len(self.machine.table)))
+        for sign in row:
+            if sign not in self.columns:
+                self.columns[sign] = [target_of(told, sign) for told in self.machine.table]
+            column = self.columns[sign]
+            states = [column[state] for state in states]
+        return states
+
+
 def read_as(machine, readings):
     """The machine over new signs each of which is read as a row of signs."""
     if not 1 <= len(readings) <= MOST_SIGNS:
@@ -216,19 +234,11 @@ def read_as(machine, readings):
     for index, reading in enumerate(readings):
         if not is_list(reading) or first_wrong_sign(reading, machine.signs) is not None:
             raise BadReading(index)
-    steps = {}
-    for reading in readings:
-        for sign in reading:
-            if sign not in steps:
-                steps[sign] = [target_of(row, sign) for row in machine.table]
+    steps = Steps(machine)
     behind = {}
     for reading in readings:
         if tuple(reading) not in behind:
-            states = list(range(len(machine.table)))
-            for sign in reading:
-                step = steps[sign]
-                states = [step[state] for state in states]
-            behind[tuple(reading)] = states
+            behind[tuple(reading)] = steps.states_behind(reading)
     columns = [behind[tuple(reading)] for reading in readings]
     table = [stretched([column[state] for column in columns]) for state in range(len(machine.table))]
     return machine_of(len(readings), table, machine.start, machine.kinds)
