@@ -4,6 +4,8 @@ Steps are pairs (state behind, how many places are marked). Over the copies of a
 the states come to a ring at last: then all the rounds that are left are gone at once.
 """
 
+from wordvault.machines import target_of
+
 
 class Orbits:
     """The steps of the codes of a Grammar, from each state that is asked for."""
@@ -18,7 +20,7 @@ class Orbits:
     def known_step(self, state, code):
         """The step over one copy of a code, or None if it is not known yet."""
         if code < self.grammar.signs:
-            behind = self.machine.state_behind(state, (code,))
+            behind = target_of(self.machine.table[state], code)
             return behind, 1 if self.machine.kinds[behind] else 0
         return self.steps[code - self.grammar.signs].get(state)
 

@@ -44,9 +44,9 @@ class RunCutter:
 
     def __init__(self, letters):
         self.letters = letters
-        self.seen = {}
-        self.seen_first = {}
-        self.seen_last = {}
+        self.told_amid = {}
+        self.told_first = {}
+        self.told_last = {}
 
     def runs_of(self, gap):
         """The longest runs, pairs (letter, count)."""
@@ -65,26 +65,23 @@ class RunCutter:
 
     def amid(self, gap):
         """The new letters of a gap."""
-        told = self.seen.get(gap)
-        if told is None:
-            told = self.seen[gap] = self.letters_of(self.runs_of(gap))
-        return told
+        if gap not in self.told_amid:
+            self.told_amid[gap] = self.letters_of(self.runs_of(gap))
+        return self.told_amid[gap]
 
     def first(self, gap):
         """What is given away at the beginning of a gap, and the new letters of the rest."""
-        told = self.seen_first.get(gap)
-        if told is None:
+        if gap not in self.told_first:
             runs = self.runs_of(gap)
-            told = self.seen_first[gap] = ((runs[0],), self.letters_of(runs[1:]))
-        return told
+            self.told_first[gap] = ((runs[0],), self.letters_of(runs[1:]))
+        return self.told_first[gap]
 
     def last(self, gap):
         """The new letters of a gap, and what is given away at its end."""
-        told = self.seen_last.get(gap)
-        if told is None:
+        if gap not in self.told_last:
             runs = self.runs_of(gap)
-            told = self.seen_last[gap] = (self.letters_of(runs[:-1]), (runs[-1],))
-        return told
+            self.told_last[gap] = (self.letters_of(runs[:-1]), (runs[-1],))
+        return self.told_last[gap]
 
     def whole(self, gap):
         """What is given away at the beginning, the new letters, and what is given away at the end."""
@@ -118,14 +115,15 @@ class PairCutter:
         self.letters = letters
         self.left = left
         self.right = right
-        self.seen = {}
+        self.told_amid = {}
+        self.told_first = {}
+        self.told_last = {}
 
     def amid(self, gap):
         """The new letters of a gap."""
-        told = self.seen.get(gap)
-        if told is None:
-            told = self.seen[gap] = self.paired(gap)
-        return told
+        if gap not in self.told_amid:
+            self.told_amid[gap] = self.paired(gap)
+        return self.told_amid[gap]
 
     def paired(self, gap):
         """The letters with each pair as one."""
@@ -142,15 +140,17 @@ class PairCutter:
 
     def first(self, gap):
         """What is given away at the beginning of a gap, and the new letters of the rest."""
-        if gap and gap[0] in self.right:
-            return gap[:1], self.amid(gap[1:])
-        return (), self.amid(gap)
+        if gap not in self.told_first:
+            given = gap[:1] if gap and gap[0] in self.right else ()
+            self.told_first[gap] = (given, self.amid(gap[len(given):]))
+        return self.told_first[gap]
 
     def last(self, gap):
         """The new letters of a gap, and what is given away at its end."""
-        if gap and gap[-1] in self.left:
-            return self.amid(gap[:-1]), gap[-1:]
-        return self.amid(gap), ()
+        if gap not in self.told_last:
+            given = gap[-1:] if gap and gap[-1] in self.left else ()
+            self.told_last[gap] = (self.amid(gap[:len(gap) - len(given)]), given)
+        return self.told_last[gap]
 
     def whole(self, gap):
         """What is given away at the beginning, the new letters, and what is given away at the end."""
@@ -174,10 +174,8 @@ class Nodes:
         self.gaps = []
         self.bases = []
         self.times = []
-        # What the last stage had given away, and from which nodes all.
-        self.ahead = {}
-        self.behind = {}
-        self.gone = {}
+        # What each node gave away last: triples (letters ahead, letters behind, whether this was all).
+        self.given = {}
 
     def added(self, refs, gaps):
         """A new node; whoever asks for it says where it stands in the order."""
@@ -196,7 +194,7 @@ class Nodes:
 
     def squeeze(self, cutter):
         """One stage."""
-        self.ahead, self.behind, self.gone = {}, {}, {}
+        self.given = {}
         order = []
         for node in self.order:
             if self.bases[node] is None:
@@ -205,7 +203,7 @@ class Nodes:
                 base = self.squeeze_core(cutter, node)
                 if base is not None:
                     order.append(base)
-            if not self.gone[node]:
+            if not self.given[node][2]:
                 order.append(node)
         self.order = order
         for root in self.roots:
@@ -214,56 +212,58 @@ class Nodes:
 
     def gathered(self, node):
         """The gaps of a node with what the nodes in it gave away; those that gave all away fall out."""
-        gaps = self.gaps[node]
-        refs, told = [], []
+        gaps, refs = self.gaps[node], self.refs[node]
+        given = self.given
+        told = []
         gap = gaps[0]
         at = 0
-        for ref in self.refs[node]:
+        all_stay = True
+        for ref in refs:
+            ahead, behind, is_gone = given[ref]
             at += 1
-            if self.gone[ref]:
-                gap = gap + self.ahead[ref] + self.behind[ref] + gaps[at]
+            if is_gone:
+                gap = gap + ahead + behind + gaps[at]
+                all_stay = False
             else:
-                told.append(gap + self.ahead[ref])
-                refs.append(ref)
-                gap = self.behind[ref] + gaps[at]
+                told.append(gap + ahead)
+                gap = behind + gaps[at]
         told.append(gap)
-        self.refs[node] = refs
+        if not all_stay:
+            self.refs[node] = [ref for ref in refs if not given[ref][2]]
         return told
 
     def squeeze_row(self, cutter, node):
         """One stage of a node that is no core."""
         gaps = self.gathered(node)
         if len(gaps) == 1:
-            self.ahead[node], letters, self.behind[node] = cutter.whole(gaps[0])
+            ahead, letters, behind = cutter.whole(gaps[0])
             self.gaps[node] = [letters]
-            self.gone[node] = not letters
+            self.given[node] = (ahead, behind, not letters)
             return
-        self.gone[node] = False
-        self.ahead[node], first = cutter.first(gaps[0])
-        last, self.behind[node] = cutter.last(gaps[-1])
-        told = [first]
-        for gap in gaps[1:-1]:
-            told.append(cutter.amid(gap))
-        told.append(last)
-        self.gaps[node] = told
+        # The rows are many, and their gaps are few: what was told of a gap is looked up first.
+        ahead, first = cutter.told_first.get(gaps[0]) or cutter.first(gaps[0])
+        last, behind = cutter.told_last.get(gaps[-1]) or cutter.last(gaps[-1])
+        for at in range(1, len(gaps) - 1):
+            gaps[at] = cutter.told_amid.get(gaps[at]) or cutter.amid(gaps[at])
+        gaps[0], gaps[-1] = first, last
+        self.gaps[node] = gaps
+        self.given[node] = (ahead, behind, False)
 
     def squeeze_core(self, cutter, node):
         """One stage of a core; if it gets a new base, this is returned, otherwise None."""
-        base = self.bases[node]
         gap = self.gaps[node][0]
-        ahead, behind = self.ahead[base], self.behind[base]
-        self.gone[node] = False
-        if not self.gone[base]:
-            self.ahead[node], self.behind[node] = ahead, behind
-            self.gaps[node] = [cutter.amid(behind + gap + ahead)]
+        ahead, behind, is_gone = self.given[self.bases[node]]
+        if not is_gone:
+            self.given[node] = self.given[self.bases[node]]
+            gap = behind + gap + ahead
+            self.gaps[node] = [cutter.told_amid.get(gap) or cutter.amid(gap)]
             return None
         ahead, letters, between, times, behind = cutter.core(ahead, gap, behind, self.times[node])
-        self.ahead[node], self.behind[node] = ahead, behind
+        self.given[node] = (ahead, behind, not letters)
         self.times[node] = times
         if times == 0:
             self.bases[node] = None
             self.gaps[node] = [letters]
-            self.gone[node] = not letters
             return None
         self.bases[node] = self.added([], [letters])
         self.gaps[node] = [between]
