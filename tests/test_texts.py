@@ -5,6 +5,7 @@ import time
 import unittest
 
 from tests.helpers import NO_INTEGERS, listed, raised, random_text
+from wordvault.edits import cut_out, joined, turned
 from wordvault.names import name_at
 from wordvault.texts import Text
 
@@ -63,6 +64,22 @@ class TextsTest(unittest.TestCase):
         self.assertNotEqual(text, Text(2, {"A": [("B", 1)], "B": [(0, 1)]}, "B"))
         self.assertNotEqual(text, Text(2, {"A": [(0, 1)], "B": [(0, 1)]}, "A"))
         self.assertFalse(text == (0,))
+
+    def test_keys_in_any_order(self):
+        rng = random.Random(30)
+        for _ in range(50):
+            text, row = random_text(rng, 3, rng.randint(2, 10))
+            names = list(text.rules)
+            rng.shuffle(names)
+            other = Text(3, {name: text.rules[name] for name in names}, text.root)
+            self.assertEqual(other, text)
+            self.assertEqual(list(other.rules), names)
+            self.assertEqual((listed(other), other.depth), (row, text.depth))
+            # Equal calls on equal texts return equal texts.
+            first = rng.randint(0, len(row))
+            self.assertEqual(cut_out(other, first, len(row) - first), cut_out(text, first, len(row) - first))
+            self.assertEqual(turned(other), turned(text))
+            self.assertEqual(joined(other, text), joined(text, other))
 
     def test_empty_rules(self):
         text = Text(1, {"A": []}, "A")
