@@ -75,11 +75,11 @@ def squeezed_apart(units, one, other):
 
 def nodes_of(units, roots):
     """The Nodes of the units that stand in these lists, or below them; a root for each list."""
-    below = {base: True for root in roots for base, _ in root}
+    below = {units.leader_of(base): True for root in roots for base, _ in root}
     for base in range(units.signs + len(units.nodes) - 1, units.signs - 1, -1):
         if base in below:
             for part, _ in units.nodes[base - units.signs]:
-                below[part] = True
+                below[units.leader_of(part)] = True
     nodes = Nodes()
     told = {}
     cores = {}
@@ -101,12 +101,12 @@ def row_told(nodes, units, told, cores, row):
         if base < units.signs:
             gaps[-1] = gaps[-1] + ((base, count),)
             continue
-        ref = told[base]
+        ref = told[units.leader_of(base)]
         if count > 1:
-            if (base, count) not in cores:
-                cores[(base, count)] = nodes.added_core(ref, count - 1)
-                nodes.order.append(cores[(base, count)])
-            ref = cores[(base, count)]
+            if (ref, count) not in cores:
+                cores[(ref, count)] = nodes.added_core(ref, count - 1)
+                nodes.order.append(cores[(ref, count)])
+            ref = cores[(ref, count)]
         refs.append(ref)
         gaps.append(())
     return refs, gaps

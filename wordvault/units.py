@@ -16,6 +16,8 @@ class Units:
         self.nodes = []
         self.sizes = []
         self.numbers = {}
+        # For each node that was found to tell the same as one of a lesser number, that one.
+        self.leaders = {}
 
     def size_of(self, base):
         """How many signs a base tells."""
@@ -54,36 +56,65 @@ class Units:
                     [(told[part][0], told[part][1] * count) for part, count in rows[code - self.signs]])
         return [[] if code == EMPTY else [told[code]] for code in codes]
 
-    def opened(self, unit):
-        """The units of one copy of a node, and the unit of what is left."""
-        base, count = unit
-        units = list(self.nodes[base - self.signs])
+    def leader_of(self, base):
+        """The base that stands for all that were found to tell the same as this one."""
+        while base in self.leaders:
+            base = self.leaders[base]
+        return base
+
+    def open_last(self, stack):
+        """Puts the units of a node in the place of one copy of the last unit of a stack."""
+        base, count = stack.pop()
         if count > 1:
-            units.append((base, count - 1))
-        return units
+            stack.append((base, count - 1))
+        stack.extend(self.nodes[base - self.signs][::-1])
+
+    def open_both(self, one, other):
+        """Opens two nodes of one size; marks, units with the count 0, stand where they end."""
+        for stack in (one, other):
+            base, count = stack.pop()
+            if count > 1:
+                stack.append((base, count - 1))
+            stack.append((base, 0))
+            stack.append((base, 1))
+            self.open_last(stack)
 
     def alike_ahead(self, one, other):
         """How many signs two stacks of units (the next one last) have alike at once; these are taken off.
 
-        Greater units are opened, but only so often as there are nodes: then it is given up.
+        Nodes of one size that turn out to tell the same are looked at only once. But where nodes
+        overlap it would take too long: then it is given up.
         """
         alike = 0
-        left = 4 * len(self.nodes) + 100
+        left = 4 * sum([len(node) for node in self.nodes]) + 100
         while one and other and left > 0:
             left -= 1
-            (base, count), (other_base, other_count) = one[-1], other[-1]
-            if base == other_base:
+            (base, count), (other_base, other_count) = self.led(one), self.led(other)
+            if count == 0:
+                one.pop()
+                other.pop()
+                if base != other_base:
+                    self.leaders[max(base, other_base)] = min(base, other_base)
+            elif base == other_base:
                 both = min(count, other_count)
                 alike += both * self.size_of(base)
                 take_off(one, both)
                 take_off(other, both)
             elif base < self.signs and other_base < self.signs:
-                return alike
-            elif self.size_of(base) >= self.size_of(other_base):
-                one.extend(self.opened(one.pop())[::-1])
+                break
+            elif self.size_of(base) == self.size_of(other_base):
+                self.open_both(one, other)
             else:
-                other.extend(self.opened(other.pop())[::-1])
+                self.open_last(one if self.size_of(base) > self.size_of(other_base) else other)
+        for stack in (one, other):
+            stack[:] = [unit for unit in stack if unit[1] > 0]
         return alike
+
+    def led(self, stack):
+        """The last unit of a stack, by its leader."""
+        base, count = stack[-1]
+        stack[-1] = (self.leader_of(base), count)
+        return stack[-1]
 
 
 def take_off(stack, many):
