@@ -92,6 +92,28 @@ class BusiestTest(unittest.TestCase):
         self.check(busiest(ones, even, GREAT), ones, even, GREAT, GREAT)
         self.check(busiest(ones, even, 0), ones, even, 0, 0)
 
+    def test_front_and_back_count(self):
+        # 0 leads straight to the ring, 1 over five marked states; from the ring 1 leads over four marked ones to the end.
+        rows = [(6, [(1, 1, 1)])] + [(state + 1, []) for state in range(1, 6)] + [(6, [(1, 1, 7)])]
+        rows += [(8, []), (9, []), (10, []), (11, []), (11, [])]
+        machine, rule = Machine(2, rows, 0, [1, 2, 3, 4, 5, 7, 8, 9, 10]), Machine(2, rows, 0, [10])
+        for size in (250, 601, GREAT):
+            self.check(busiest(machine, rule, size), machine, rule, size, 9)
+        quiet = Machine(2, rows, 0, [1, 2, 3, 6])
+        for size in (300, GREAT):
+            # Straight to the ring: two places more in it than over the five states.
+            self.check(busiest(quiet, rule, size), quiet, rule, size, size - 4)
+
+    def test_rings_that_must_come_so_often(self):
+        # From state 0 a ring of seven marked places, and one of eight that are not: the second as seldom as may be.
+        rows = [(1, [(1, 1, 7)])] + [(state + 1, []) for state in range(1, 6)] + [(0, [])]
+        rows += [(state + 1, []) for state in range(7, 13)] + [(0, [])]
+        machine = Machine(2, rows, 0, [1, 2, 3, 4, 5, 6])
+        rule = Machine(2, rows, 0, [0])
+        for size in list(range(450, 458)) + list(range(GREAT - 7, GREAT + 1)):
+            seldom = size % 7
+            self.check(busiest(machine, rule, size), machine, rule, size, (size - 8 * seldom) // 7 * 6)
+
     def test_sixteen_pairs(self):
         def ring(size, marks):
             return Machine(2, [((state + 1) % size, []) for state in range(size)], 0, marks)
