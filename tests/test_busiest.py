@@ -104,6 +104,17 @@ class BusiestTest(unittest.TestCase):
             # Straight to the ring: two places more in it than over the five states.
             self.check(busiest(quiet, rule, size), quiet, rule, size, size - 4)
 
+    def test_longer_backs_that_mark_more(self):
+        # 0: to the ring (3, 4) at once, or by 1 and 2. From the ring 1 leads to the end 5; 2 to the end 8 by marked states.
+        rows = [(3, [(1, 1, 1)]), (2, []), (3, []), (4, [(1, 1, 5), (2, 2, 6)]), (3, []), (9, []), (7, []), (8, []),
+                (9, []), (9, [])]
+        machine, rule = Machine(3, rows, 0, [6, 7]), Machine(3, rows, 0, [5, 8])
+        for size in (202, 700, GREAT):
+            self.check(busiest(machine, rule, size), machine, rule, size, 2)
+            self.assertIsNone(busiest(machine, rule, size - 1))
+        late = Machine(3, rows, 0, [1, 5])
+        self.check(busiest(late, rule, GREAT), late, rule, GREAT, 2)
+
     def test_rings_that_must_come_so_often(self):
         # From state 0 a ring of seven marked places, and one of eight that are not: the second as seldom as may be.
         rows = [(1, [(1, 1, 7)])] + [(state + 1, []) for state in range(1, 6)] + [(0, [])]
