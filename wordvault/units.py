@@ -69,21 +69,20 @@ class Units:
             stack.append((base, count - 1))
         stack.extend(self.nodes[base - self.signs][::-1])
 
-    def open_both(self, one, other):
-        """Opens two nodes of one size; marks, units with the count 0, stand where they end."""
-        for stack in (one, other):
-            base, count = stack.pop()
-            if count > 1:
-                stack.append((base, count - 1))
-            stack.append((base, 0))
-            stack.append((base, 1))
-            self.open_last(stack)
+    def open_marked(self, stack):
+        """As open_last, with a mark, a unit with the count 0, where the node ends."""
+        base, count = stack.pop()
+        if count > 1:
+            stack.append((base, count - 1))
+        stack.append((base, 0))
+        stack.extend(self.nodes[base - self.signs][::-1])
 
     def alike_ahead(self, one, other):
         """How many signs two stacks of units (the next one last) have alike at once; these are taken off.
 
-        Nodes of one size that turn out to tell the same are looked at only once. But where nodes
-        overlap it would take too long: then it is given up.
+        Where two nodes of one size stand against each other, marks stand where they end: if these are come
+        to, the two tell the same, and need not be looked at again. But where nodes overlap it
+        would take too long: then it is given up.
         """
         alike = 0
         left = 4 * sum([len(node) for node in self.nodes]) + 100
@@ -103,11 +102,12 @@ class Units:
             elif base < self.signs and other_base < self.signs:
                 break
             elif self.size_of(base) == self.size_of(other_base):
-                self.open_both(one, other)
+                self.open_marked(one)
+                self.open_marked(other)
             else:
                 self.open_last(one if self.size_of(base) > self.size_of(other_base) else other)
-        for stack in (one, other):
-            stack[:] = [unit for unit in stack if unit[1] > 0]
+        take_marks_off(one)
+        take_marks_off(other)
         return alike
 
     def led(self, stack):
@@ -122,3 +122,10 @@ def take_off(stack, many):
     base, count = stack.pop()
     if count > many:
         stack.append((base, count - many))
+
+
+def take_marks_off(stack):
+    """Leaves the units that are no marks."""
+    kept = [unit for unit in stack if unit[1] > 0]
+    stack.clear()
+    stack.extend(kept)
