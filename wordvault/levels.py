@@ -68,7 +68,7 @@ def squeezed_apart(units, one, other):
             readers = [Reader(nodes, letters, root) for root in nodes.roots]
             return alike + read_apart(letters, readers[0], readers[1])
         letters.new_stage()
-        left, right = sides_of(nodes.pairs_told())
+        left, right = sides_of(letters.weighed(nodes.neighbours()))
         nodes.squeeze(PairCutter(letters, left, right))
         alike += taken_off(nodes, letters)
 

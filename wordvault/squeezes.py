@@ -9,6 +9,10 @@ A node has refs, nodes that stand in it, and gaps, tuples of letters ahead of,
 between, and behind these. A core is a node that stands for X (w X) .. (w X): its base X,
 its gap w and its times. Ahead of each stage a node gives away what may become one with
 letters outside of it; these letters stand in the gaps around it then.
+
+A core whose base is letters alone gives away a copy with each stage or so until its copies
+are single letters, and it has as many copies as a count tells. So all neighbours must become
+one soon: also those over the ends of nodes are told to the splitting, and none waits for long.
 """
 
 
@@ -21,6 +25,8 @@ class Letters:
         self.parts = [()] * signs
         self.stage = 0
         self.numbers = {}
+        # What a pair of neighbours weighs that so many splittings left as it is.
+        self.weights = [16]
 
     def new_stage(self):
         """From now on letters are made by the next stage."""
@@ -37,6 +43,22 @@ class Letters:
             self.stages.append(self.stage)
             self.parts.append(parts)
         return number
+
+    def weighed(self, pairs):
+        """A dict from pairs of neighbours to their weights, for the splitting of this stage.
+
+        A quarter of all the weight is made one by each splitting, and a pair that is left weighs a quarter
+        more each time. So the weight of all stays below some 16 times that of what is new, and a pair is left
+        some log(16 * pairs) times at most, whatever stands beside it.
+        """
+        weights = {}
+        for one, other in pairs:
+            # Two letters side by side are so since the later one was made; every other stage is a splitting.
+            waited = (self.stage - 1 - max(self.stages[one], self.stages[other])) // 2
+            while waited >= len(self.weights):
+                self.weights.append(self.weights[-1] * 5 // 4)
+            weights[(one, other)] = self.weights[waited]
+        return weights
 
 
 class RunCutter:
@@ -269,34 +291,52 @@ class Nodes:
         self.gaps[node] = [between]
         return self.bases[node]
 
-    def pairs_told(self):
-        """How often each pair of letters stands in the gaps, as a dict."""
-        times = {}
-        for node in self.order + self.roots:
-            for gap in self.gaps[node]:
-                if len(gap) > 1:
-                    times[gap] = times.get(gap, 0) + 1
+    def neighbours(self):
+        """All pairs of letters that stand side by side in what the nodes tell, each once."""
+        gaps = self.wide_gaps()
         pairs = {}
-        for gap, many in times.items():
+        for gap in gaps:
             for at in range(1, len(gap)):
-                pair = (gap[at - 1], gap[at])
-                pairs[pair] = pairs.get(pair, 0) + many
-        return pairs
+                pairs[gap[at - 1:at + 1]] = True
+        return list(pairs)
+
+    def wide_gaps(self):
+        """All gaps, each with the last letter of what stands ahead of it and the first one of what stands behind it."""
+        wide = {}
+        firsts, lasts = {}, {}
+        for node in self.order + self.roots:
+            gaps, refs, base = self.gaps[node], self.refs[node], self.bases[node]
+            if base is not None:
+                wide[lasts[base] + gaps[0] + firsts[base]] = True
+                firsts[node], lasts[node] = firsts[base], lasts[base]
+                continue
+            ahead = ()
+            for at, ref in enumerate(refs):
+                wide[ahead + gaps[at] + firsts[ref]] = True
+                ahead = lasts[ref]
+            wide[ahead + gaps[-1]] = True
+            firsts[node] = gaps[0][:1] or firsts[refs[0]]
+            lasts[node] = gaps[-1][-1:] or lasts[refs[-1]]
+        return list(wide)
 
 
-def sides_of(pairs):
-    """A splitting of the letters in two sides such that many of the pairs go from the one to the other."""
+def sides_of(weighed):
+    """A splitting of the letters in two sides: of the weight of all pairs a quarter at least goes from one to other.
+
+    Each letter comes to the side on which it has less weight beside it; so half of the weight at least
+    goes over, forth or back.
+    """
     weights = {}
-    for (one, other), many in pairs.items():
+    for (one, other), weight in weighed.items():
         of_one, of_other = weights.setdefault(one, {}), weights.setdefault(other, {})
-        of_one[other] = of_one.get(other, 0) + many
-        of_other[one] = of_other.get(one, 0) + many
+        of_one[other] = of_one.get(other, 0) + weight
+        of_other[one] = of_other.get(one, 0) + weight
     left, right = {}, {}
     for letter, beside in weights.items():
-        lefts = sum([many for other, many in beside.items() if other in left])
-        rights = sum([many for other, many in beside.items() if other in right])
+        lefts = sum([weight for other, weight in beside.items() if other in left])
+        rights = sum([weight for other, weight in beside.items() if other in right])
         side = right if lefts > rights else left
         side[letter] = True
-    forth = sum([many for (one, other), many in pairs.items() if one in left and other in right])
-    back = sum([many for (one, other), many in pairs.items() if one in right and other in left])
+    forth = sum([weight for (one, other), weight in weighed.items() if one in left and other in right])
+    back = sum([weight for (one, other), weight in weighed.items() if one in right and other in left])
     return (left, right) if forth >= back else (right, left)
