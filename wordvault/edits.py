@@ -26,15 +26,13 @@ def cut_out(text, first, many):
     check_stretch(text, first, many)
     shelf = Shelf(text.signs)
     code = shelf.laid_in(text.grammar)
-    return shelf.text(shelf.behind(shelf.ahead_of(code, first + many), first))
+    return shelf.text(shelf.laid(shelf.pieces(code, first, first + many)))
 
 
 def taken_out(text, first, many):
     """The text without these signs."""
     check_stretch(text, first, many)
-    shelf = Shelf(text.signs)
-    code = shelf.laid_in(text.grammar)
-    return shelf.text(shelf.in_row([shelf.ahead_of(code, first), shelf.behind(code, first + many)]))
+    return with_amid(text, first, first + many, None)
 
 
 def put_over(text, first, many, other):
@@ -53,19 +51,20 @@ def put_into(text, place, other):
 
 
 def with_amid(text, first, behind, other):
-    """What stands ahead of first, the other text, and what stands from behind on."""
+    """What stands ahead of first, the other text, if there is one, and what stands from behind on."""
     shelf = Shelf(text.signs)
     code = shelf.laid_in(text.grammar)
-    amid = shelf.laid_in(other.grammar)
-    return shelf.text(shelf.in_row([shelf.ahead_of(code, first), amid, shelf.behind(code, behind)]))
+    row = shelf.opened(code, 0, first)
+    if other is not None:
+        row.extend(shelf.row_of(shelf.laid_in(other.grammar)))
+    row.extend(shelf.opened(code, behind, text.size))
+    return shelf.text(shelf.laid(row))
 
 
 def joined(one, other):
     """The other text behind the one."""
     check_signs(one, other)
-    shelf = Shelf(one.signs)
-    code = shelf.laid_in(one.grammar)
-    return shelf.text(shelf.in_row([code, shelf.laid_in(other.grammar)]))
+    return with_amid(one, one.size, one.size, other)
 
 
 def repeated(text, count):
@@ -94,10 +93,5 @@ def mapped(text, numbers, signs):
             raise BadMap(index)
     if len(numbers) != text.signs:
         raise BadMap(len(numbers))
-    grammar = text.grammar
-    codes = [EMPTY if number is None else number for number in numbers]
-    codes.extend([signs + rule for rule in range(len(grammar.rows))])
-    rows = []
-    for row in grammar.rows:
-        rows.append([(codes[code], count) for code, count in row if codes[code] != EMPTY])
-    return text_of_rows(signs, signs, rows, EMPTY if grammar.top == EMPTY else codes[grammar.top])
+    shelf = Shelf(signs)
+    return shelf.text(shelf.spelled_in(text.grammar, [EMPTY if number is None else number for number in numbers]))

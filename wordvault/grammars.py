@@ -43,8 +43,12 @@ class Grammar:
 
     def signs_from(self, place, many):
         """A list of so many signs from a place on."""
+        return self.signs_of(self.top, place, many)
+
+    def signs_of(self, top, place, many):
+        """A list of so many of the signs of a code, from a place on."""
         found = []
-        todo = [] if self.top == EMPTY else [(self.top, 1)]
+        todo = [] if top == EMPTY else [(top, 1)]
         while todo and len(found) < many:
             code, count = todo.pop()
             if place:
@@ -58,6 +62,44 @@ class Grammar:
                     todo.append((code, count - 1))
                 todo.extend(self.rows[code - self.signs][::-1])
         return found
+
+    def whole_row(self):
+        """The pairs of the whole text."""
+        return [] if self.top == EMPTY else [(self.top, 1)]
+
+    def pieces(self, top, first, behind):
+        """Pairs (code, count) that tell the signs of a code from first on, ahead of behind: as few as can be."""
+        told = []
+        todo = [(top, 1, first, behind)] if first < behind else []
+        while todo:
+            code, count, first, behind = todo.pop()
+            size = self.size_of(code)
+            if first % size == 0 and behind % size == 0:
+                told.append((code, (behind - first) // size))
+            elif first // size == (behind - 1) // size:
+                ahead = first // size * size
+                todo.extend(self.runs_within(code, first - ahead, behind - ahead)[::-1])
+            else:
+                runs = self.runs_within(code, first % size, size) if first % size else []
+                copies = behind // size - (first + size - 1) // size
+                if copies:
+                    runs.append((code, copies, 0, copies * size))
+                if behind % size:
+                    runs.extend(self.runs_within(code, 0, behind % size))
+                todo.extend(runs[::-1])
+        return told
+
+    def runs_within(self, code, first, behind):
+        """The pairs of a rule of which signs stand from first on, ahead of behind, each with what of it does."""
+        runs = []
+        at = 0
+        for part, count in self.rows[code - self.signs]:
+            size = self.size_of(part) * count
+            low, high = max(first - at, 0), min(behind - at, size)
+            if low < high:
+                runs.append((part, count, low, high))
+            at += size
+        return runs
 
     def tally_of(self, times):
         """How often each sign comes where each code comes so often as times, a dict, tells."""
@@ -73,21 +115,13 @@ class Grammar:
 
     def tally(self):
         """How often each sign comes."""
-        return self.tally_of({} if self.top == EMPTY else {self.top: 1})
+        return self.tally_of({code: count for code, count in self.whole_row()})
 
     def tally_ahead(self, place):
         """How often each sign comes ahead of a place."""
         times = {}
-        row = () if self.top == EMPTY else ((self.top, 1),)
-        while place > 0:
-            for part, count in row:
-                size = self.size_of(part)
-                passed = min(count, place // size)
-                place -= passed * size
-                times[part] = times.get(part, 0) + passed
-                if passed < count:
-                    row = self.row_of(part)
-                    break
+        for code, count in self.pieces(self.top, 0, place):
+            times[code] = times.get(code, 0) + count
         return self.tally_of(times)
 
     def place_of(self, sign, number):

@@ -39,18 +39,30 @@ def alike_from(one, first, other, second):
 
 def alike_behind(one, first, other, second):
     """How many signs from these places on are alike."""
-    signs = max(one.signs, other.signs)
-    shelf = Shelf(signs)
-    code = shelf.behind(shelf.laid_in(one.grammar), first)
-    other_code = shelf.behind(shelf.laid_in(other.grammar), second)
-    units = Units(signs)
+    shelf = Shelf(max(one.signs, other.signs))
+    code = shelf.laid(shelf.pieces(shelf.laid_in(one.grammar), first, one.size))
+    other_code = shelf.laid(shelf.pieces(shelf.laid_in(other.grammar), second, other.size))
+    return alike_in(shelf, code, other_code)
+
+
+def alike_in(shelf, code, other_code):
+    """How many signs two codes of a shelf have alike at their beginnings."""
+    units = Units(shelf.signs)
     stack, other_stack = units.laid_in(shelf.rows, [code, other_code])
     alike = units.alike_ahead(stack, other_stack)
     if not stack or not other_stack:
         return alike
-    if max(stack[-1][0], other_stack[-1][0]) < signs and stack[-1][0] != other_stack[-1][0]:
+    if max(stack[-1][0], other_stack[-1][0]) < shelf.signs and stack[-1][0] != other_stack[-1][0]:
         return alike
     return alike + squeezed_apart(units, stack[::-1], other_stack[::-1])
+
+
+def parted_in(shelf, code, other_code):
+    """The least place at which two codes of a shelf part, None if they tell the same."""
+    place = alike_in(shelf, code, other_code)
+    if place == shelf.grammar.size_of(code) and place == shelf.grammar.size_of(other_code):
+        return None
+    return place
 
 
 def squeezed_apart(units, one, other):

@@ -8,9 +8,8 @@ from wordvault.texts import MOST_PAIRS, Text
 class Shelf:
     """A growing list of rules of codes, for texts of so many signs or fewer.
 
-    A cut goes down along one path. It makes two new rules at most at each depth: what
-    stands whole is kept in a rule of its own if the row would be too long. As that rule
-    does not go down the path, the depth grows by 1 at most with each cut.
+    What is kept of a text by a cut is laid in one row, whatever rules it stood in: this
+    takes few rules, and hardly any depth.
     """
 
     def __init__(self, signs):
@@ -21,11 +20,14 @@ class Shelf:
 
     def laid_in(self, grammar):
         """The code of the text of a Grammar whose rules are laid in."""
-        shift = self.signs + len(self.rows) - grammar.signs
+        return self.spelled_in(grammar, list(range(grammar.signs)))
+
+    def spelled_in(self, grammar, codes):
+        """The code of the text of a Grammar with a code in the place of each of its signs."""
+        told = list(codes)
         for row in grammar.rows:
-            self.rows.append([(code if code < grammar.signs else code + shift, count) for code, count in row])
-        self.sizes.extend(grammar.sizes)
-        return grammar.top if grammar.top < grammar.signs else grammar.top + shift
+            told.append(self.coded([(told[code], count) for code, count in row if told[code] != EMPTY]))
+        return EMPTY if grammar.top == EMPTY else told[grammar.top]
 
     def coded(self, row):
         """A code that tells these pairs."""
@@ -37,45 +39,28 @@ class Shelf:
         self.rows.append(row)
         return self.signs + len(self.rows) - 1
 
+    def laid(self, row):
+        """A code that tells these pairs, however many."""
+        while len(row) > MOST_PAIRS:
+            row = [(self.coded(row[at:at + MOST_PAIRS]), 1) for at in range(0, len(row), MOST_PAIRS)]
+        return self.coded(row)
+
     def in_row(self, codes):
         """A code that tells these codes, one behind the other."""
-        return self.coded([(code, 1) for code in codes if code != EMPTY])
+        return self.laid([(code, 1) for code in codes if code != EMPTY])
 
-    def ahead_of(self, code, place):
-        """A code that tells the signs ahead of a place."""
-        return self.nested(self.whole_rows(code, place, 1), 1)
+    def pieces(self, code, first, behind):
+        """Pairs that tell the signs of a code from first on, ahead of behind."""
+        return self.grammar.pieces(code, first, behind)
 
-    def behind(self, code, place):
-        """A code that tells the signs from a place on."""
-        return self.nested(self.whole_rows(code, self.grammar.size_of(code) - place, -1), -1)
+    def row_of(self, code):
+        """The pairs of a code: new ones may be laid beside them."""
+        return [] if code == EMPTY else list(self.grammar.row_of(code))
 
-    def whole_rows(self, code, many, way):
-        """What stands whole in so many signs at the beginning (way 1) or the end (way -1): a row for each depth."""
-        kept = []
-        while many > 0:
-            row = []
-            for part, count in self.grammar.row_of(code)[::way]:
-                size = self.grammar.size_of(part)
-                passed = min(count, many // size)
-                many -= passed * size
-                if passed:
-                    row.append((part, passed))
-                if passed < count:
-                    code = part
-                    break
-            kept.append(row[::way])
-        return kept
-
-    def nested(self, kept, way):
-        """A code for rows of which each one has the next one behind it (way 1) or ahead of it (way -1)."""
-        inner = EMPTY
-        for row in kept[::-1]:
-            if inner == EMPTY:
-                inner = self.coded(row)
-            else:
-                whole = [(self.coded(row), 1)] if len(row) >= MOST_PAIRS else row
-                inner = self.coded(whole + [(inner, 1)] if way == 1 else [(inner, 1)] + whole)
-        return inner
+    def opened(self, code, first, behind):
+        """As pieces; but the whole is told by its pairs, so that texts do not grow deeper each time."""
+        row = self.pieces(code, first, behind)
+        return self.row_of(code) if row == [(code, 1)] else row
 
     def text(self, code):
         """The Text that a code tells."""
