@@ -123,7 +123,7 @@ class LanguageTest(unittest.TestCase):
 
     def test_nodes(self):
         barred = (ast.Global, ast.AsyncFunctionDef, ast.Await, ast.GeneratorExp, ast.Yield, ast.YieldFrom, ast.Div,
-                  ast.Starred, ast.NamedExpr, ast.Set, ast.SetComp, ast.AnnAssign, ast.Try, ast.With, ast.Match)
+                  ast.Starred, ast.NamedExpr, ast.Set, ast.SetComp, ast.AnnAssign, ast.With, ast.Match)
         for name, text, tree in self.each():
             for node in ast.walk(tree):
                 where = f"{name} {getattr(node, 'lineno', '')}"
@@ -142,6 +142,9 @@ class LanguageTest(unittest.TestCase):
                     self.assertIsInstance(node.right, ast.Constant, where)
                 if isinstance(node, ast.Raise):
                     self.assertIsInstance(node.exc, ast.Call, where)
+                if isinstance(node, ast.Try):
+                    self.assertEqual([ast.unparse(told.type) for told in node.handlers], ["VaultError"], where)
+                    self.assertEqual(node.finalbody, [], where)
 
     def test_calls(self):
         own = set()
