@@ -68,7 +68,10 @@ class LanguageTest(unittest.TestCase):
             edges[name[:-3]] = []
             for node in ast.walk(tree):
                 self.assertNotIsInstance(node, ast.Import)
-                if isinstance(node, ast.ImportFrom):
+                if isinstance(node, ast.ImportFrom) and node.module == "math":
+                    self.assertIn(node, tree.body)
+                    self.assertEqual([(alias.name, alias.asname) for alias in node.names], [("gcd", None)])
+                elif isinstance(node, ast.ImportFrom):
                     self.assertIn(node, tree.body)
                     package, module = node.module.split(".")
                     self.assertEqual(package, "wordvault")

@@ -49,6 +49,16 @@ class Tree:
                 node = 0
         return node, signs
 
+    def nodes_over(self, good, every):
+        """For each node whether every sign whose word begins with it, or any such sign, is a good one."""
+        told = [False] * len(self.names)
+        # A node has a lesser number than those below it.
+        for node in range(len(told) - 1, -1, -1):
+            ends = (self.zeros[node], self.ones[node])
+            below = [told[behind] if behind >= 0 else good[-1 - behind] for behind in ends]
+            told[node] = all(below) if every else any(below)
+        return told
+
     def read_named(self, name, bits):
         """As read, the nodes being told by their bits."""
         node, signs = self.read(self.numbers[name], bits)
