@@ -125,7 +125,7 @@ class LanguageTest(unittest.TestCase):
                     self.assertNotEqual(node.id, "_", f"{name} {node.lineno}")
 
     def test_nodes(self):
-        barred = (ast.Global, ast.AsyncFunctionDef, ast.Await, ast.GeneratorExp, ast.Yield, ast.YieldFrom, ast.Div,
+        barred = (ast.Global, ast.AsyncFunctionDef, ast.Await, ast.GeneratorExp, ast.Div,
                   ast.Starred, ast.NamedExpr, ast.Set, ast.SetComp, ast.AnnAssign, ast.With, ast.Match)
         for name, text, tree in self.each():
             for node in ast.walk(tree):
@@ -145,6 +145,8 @@ class LanguageTest(unittest.TestCase):
                     self.assertIsInstance(node.right, ast.Constant, where)
                 if isinstance(node, ast.Raise):
                     self.assertIsInstance(node.exc, ast.Call, where)
+                if isinstance(node, (ast.Yield, ast.YieldFrom)):
+                    self.assertEqual(name, "repairs.py", where)
                 if isinstance(node, ast.Try):
                     self.assertEqual([ast.unparse(told.type) for told in node.handlers], ["VaultError"], where)
                     self.assertEqual(node.finalbody, [], where)
@@ -198,7 +200,7 @@ class LanguageTest(unittest.TestCase):
                     self.assertTrue(attribute not in BUILTIN_ATTRIBUTES or attribute in ATTRIBUTES_ALLOWED, attribute)
                 for method in methods:
                     self.assertTrue(method in METHODS or method not in BUILTIN_ATTRIBUTES
-                                    or method in ("__init__", "__eq__"), method)
+                                    or method in ("__init__", "__eq__", "__len__"), method)
 
 
 def docstrings(tree):

@@ -2,7 +2,6 @@
 
 from wordvault.checks import is_between
 from wordvault.errors import BadPlace, OtherSigns, TooMany
-from wordvault.grammars import EMPTY
 from wordvault.shelves import Shelf
 
 MOST_BITS = 2000
@@ -55,10 +54,9 @@ class Coded:
 
     def bits_in(self, shelf):
         """The code of these bits, laid in a shelf."""
-        codes = []
-        for word, count in zip(self.code.words, self.text.tally()):
-            codes.append(shelf.laid(runs_of_bits(word)) if count else EMPTY)
-        return shelf.spelled_in(self.text.grammar, codes)
+        words = [[1 if bit == "1" else 0 for bit in word] if count else None
+                 for word, count in zip(self.code.words, self.text.tally())]
+        return shelf.words_in(self.text.grammar, words)
 
     def begin_of(self, index):
         """The place of the first bit of a sign; the size, for the size of the text."""
@@ -87,15 +85,3 @@ class Coded:
     def word_at(self, index):
         """The word of the sign with this index."""
         return self.code.words[self.text.grammar.sign_at(index)]
-
-
-def runs_of_bits(word):
-    """Pairs (bit, count) of a word."""
-    runs = []
-    for bit in word:
-        sign = 1 if bit == "1" else 0
-        if runs and runs[-1][0] == sign:
-            runs[-1] = (sign, runs[-1][1] + 1)
-        else:
-            runs.append((sign, 1))
-    return runs

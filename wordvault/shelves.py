@@ -24,10 +24,18 @@ class Shelf:
 
     def spelled_in(self, grammar, codes):
         """The code of the text of a Grammar with a code in the place of each of its signs."""
+        return EMPTY if grammar.top == EMPTY else self.rules_in(grammar.rows, codes)[grammar.top]
+
+    def rules_in(self, rows, codes):
+        """The codes of rules, which are laid in, behind those in the place of signs, which are told."""
         told = list(codes)
-        for row in grammar.rows:
+        for row in rows:
             told.append(self.coded([(told[code], count) for code, count in row if told[code] != EMPTY]))
-        return EMPTY if grammar.top == EMPTY else told[grammar.top]
+        return told
+
+    def words_in(self, grammar, words):
+        """The code of the text of a Grammar with a row of signs in the place of each sign: None where none comes."""
+        return self.spelled_in(grammar, [EMPTY if word is None else self.laid(runs_of(word)) for word in words])
 
     def coded(self, row):
         """A code that tells these pairs."""
@@ -47,7 +55,7 @@ class Shelf:
 
     def in_row(self, codes):
         """A code that tells these codes, one behind the other."""
-        return self.laid([(code, 1) for code in codes if code != EMPTY])
+        return self.laid(runs_of(codes))
 
     def pieces(self, code, first, behind):
         """Pairs that tell the signs of a code from first on, ahead of behind."""
@@ -65,6 +73,17 @@ class Shelf:
     def text(self, code):
         """The Text that a code tells."""
         return text_of_rows(self.signs, self.signs, self.rows, code)
+
+
+def runs_of(row):
+    """The pairs (code, count) that tell a row of codes, one behind the other."""
+    runs = []
+    for code in row:
+        if runs and runs[-1][0] == code:
+            runs[-1] = (code, runs[-1][1] + 1)
+        elif code != EMPTY:
+            runs.append((code, 1))
+    return runs
 
 
 def text_of_rows(signs, shift, rows, code):
