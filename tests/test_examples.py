@@ -11,11 +11,16 @@ class ExamplesTest(unittest.TestCase):
     def test_examples(self):
         with open(os.path.join(HERE, "examples.txt"), encoding="utf-8") as told:
             test = doctest.DocTestParser().get_doctest(told.read(), {}, "examples.txt", "examples.txt", 0)
-        self.assertGreater(len(test.examples), 50)
+        self.assertGreater(len(test.examples), 180)
         runner = doctest.DocTestRunner(verbose=False)
         said = []
         result = runner.run(test, out=said.append)
         self.assertEqual(result.failed, 0, "".join(said))
+
+    def test_examples_of_the_readme(self):
+        result = doctest.testfile(os.path.join(HERE, "..", "README.md"), module_relative=False, verbose=False)
+        self.assertGreater(result.attempted, 5)
+        self.assertEqual(result.failed, 0)
 
     def test_examples_are_those_of_the_document(self):
         path = os.path.join(HERE, "..", "..", "shared", "DOC.md")

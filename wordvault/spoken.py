@@ -54,10 +54,6 @@ class Spoken:
         self.codes = codes
         self.refusals = refusals
 
-    def row_of_numbers(self, numbers):
-        """The pairs that tell what is made of some words."""
-        return runs_of([self.codes[number] for number in numbers])
-
 
 def sooner(one, other):
     """The lesser one of two deeds that refuse; None is no deed."""
