@@ -102,14 +102,19 @@ def pairs_that_come_up(pairs):
     return order, steps
 
 
+def rings_of(steps):
+    """For each pair the number of its ring; those behind a ring have lesser numbers."""
+    return components([[step[1] for step in row] for row in steps])
+
+
 def heights_of(steps):
     """For each pair the greatest number of bits behind which an unlike tell comes; None if there is no greatest one."""
-    rings = components([[target for _, target, _ in row] for row in steps])
+    rings = rings_of(steps)
     members = {}
     for number, ring in enumerate(rings):
         members.setdefault(ring, []).append(number)
     heights = [0] * len(steps)
-    # Rings behind a ring have lesser numbers: their heights are known.
+    # The heights behind a ring are known.
     for ring in sorted(list(members)):
         turns = [target for number in members[ring] for _, target, _ in steps[number] if rings[target] == ring]
         found = [height_by(step, heights) for number in members[ring] for step in steps[number]]
@@ -142,11 +147,11 @@ def highest_row(steps, heights):
 
 def endless_rows(steps, heights):
     """Bits to a pair, a ring from it to itself, and bits behind the last of which a tell is unlike."""
-    rings = components([[target for _, target, _ in row] for row in steps])
-    table = [[(bit, target) for bit, target, _ in row] for row in steps]
+    rings = rings_of(steps)
+    table = [[step[:2] for step in row] for row in steps]
     order, came = walked(table, 0)
     for number in order:
-        again = [(bit, target) for bit, target, _ in steps[number] if rings[target] == rings[number]]
+        again = [step for step in table[number] if rings[step[1]] == rings[number]]
         if heights[number] is None and again:
             bit, target = again[0]
             _, came_round = walked(table, target)
