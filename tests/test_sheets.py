@@ -38,6 +38,32 @@ class SheetsTest(unittest.TestCase):
                 many = rng.randint(0, len(row) - first)
                 self.assertEqual(sheet.sum_over(first, many), sum_told(guard, symbols(row[first:first + many])))
 
+    def test_many_numbers(self):
+        rng = random.Random(105)
+        for size in range(1, 17):
+            guard = random_guard(rng, rng.choice([2, 6, 97, 10 ** 18, 10 ** 18 - 11]), size, 1)
+            text, row = random_text(rng, 2, 8, 150)
+            sheet = Sheet(guard, text, 37)
+            for first in (0, len(row) // 3, len(row)):
+                self.assertEqual(sheet.sum_over(first, len(row) - first), sum_told(guard, symbols(row[first:])))
+            zeros = Sheet(guard, Text(2, {"A": [(0, GREAT)]}, "A"), GREAT)
+            matrix = power(guard.modulus, guard.matrix, GREAT)
+            wished = [sum(one * more for one, more in zip(line, guard.start)) + end for line, end in zip(matrix, guard.end)]
+            self.assertEqual(zeros.sum_at(0), tuple(number % guard.modulus for number in wished))
+
+    def test_deep_names(self):
+        began = time.time()
+        guard = remainder(16, 0x1021)
+        deep = Sheet(guard, chain(1000, GREAT), GREAT)
+        first = deep.bits.size // 3
+        self.assertEqual(deep.sum_over(first, 50), guard.sum_of(symbols(deep.bits.part(first, 50))))
+        # A sum is that of the first bits, with the last ones behind.
+        half = deep.bits.size // 7
+        ahead = Guard(2, guard.matrix, guard.columns, deep.sum_over(0, half), [0] * 16)
+        behind = Sheet(ahead, deep.bits, GREAT).sum_over(half, deep.bits.size - half)
+        self.assertEqual(deep.sum_over(0, deep.bits.size), behind)
+        self.assertLess(time.time() - began, 90)
+
     def test_errors_in_order(self):
         wide = Guard(2, [[1]], [[1, 1]], [0], [0])
         bits, signs = Text(2, {"A": [(0, 5)]}, "A"), Text(3, {"A": [(0, 5)]}, "A")

@@ -1,6 +1,10 @@
-"""What stretches of bits do to the state of a guard: v becomes A v + b, a pair (A, b)."""
+"""What stretches of bits do to the state of a guard.
 
-from wordvault.matrices import applied, product
+Behind a stretch the state v has become P v + Q G, P being a power of A, Q a sum of
+powers of it: the effect of the stretch is the pair (P, Q), as polynomials of A.
+"""
+
+from wordvault.powers import Powers
 
 
 class Effects:
@@ -9,27 +13,15 @@ class Effects:
     def __init__(self, guard, grammar):
         self.guard = guard
         self.grammar = grammar
-        self.known = {}
-        for bit in range(2):
-            self.known[bit] = (guard.matrix, applied(guard.modulus, guard.columns, (bit,)))
+        self.powers = Powers(guard.modulus, guard.matrix)
+        self.columns = tuple([row[0] for row in guard.columns])
+        self.known = {0: (self.powers.root, 0), 1: (self.powers.root, self.powers.unit)}
 
     def over_row(self, state, row):
         """The state behind pairs of codes and counts."""
         self.find([code for code, _ in row])
-        for code, count in row:
-            state = self.over_copies(state, self.known[code], count)
-        return state
-
-    def over_copies(self, state, effect, count):
-        """The state behind an effect that comes so often."""
-        while count > 0:
-            if count & 1:
-                matrix, shift = effect
-                state = self.guard.added(applied(self.guard.modulus, matrix, state), shift)
-            count >>= 1
-            if count:
-                effect = self.chained(effect, effect)
-        return state
+        power, more = self.effect_of(row)
+        return self.guard.added(self.powers.applied_to(power, state), self.powers.applied_to(more, self.columns))
 
     def find(self, codes):
         """Makes the effects of codes known, and of all codes below them."""
@@ -45,26 +37,19 @@ class Effects:
 
     def effect_of(self, row):
         """The effect of pairs, all of whose codes are known."""
-        whole = None
+        whole = (self.powers.unit, 0)
         for code, count in row:
-            effect = self.repeated(self.known[code], count)
-            whole = effect if whole is None else self.chained(whole, effect)
-        return whole
-
-    def repeated(self, effect, count):
-        """An effect so often, once at least."""
-        whole = None
-        while count > 0:
-            if count & 1:
-                whole = effect if whole is None else self.chained(whole, effect)
-            count >>= 1
-            if count:
-                effect = self.chained(effect, effect)
+            effect = self.known[code]
+            while count > 0:
+                if count & 1:
+                    whole = self.chained(whole, effect)
+                count >>= 1
+                if count:
+                    effect = self.chained(effect, effect)
         return whole
 
     def chained(self, one, other):
         """One effect, then the other one."""
-        matrix, shift = one
-        behind, more = other
-        modulus = self.guard.modulus
-        return product(modulus, behind, matrix), self.guard.added(applied(modulus, behind, shift), more)
+        power, more = one
+        behind, added = other
+        return self.powers.times(power, behind), self.powers.plus(self.powers.times(more, behind), added)
